@@ -1,0 +1,1 @@
+"""Logfolds: what all runs leave in a folded log."""
