@@ -1,0 +1,145 @@
+"""Sets of logs: the sets of nets that some finite machine accepts, each known by its least machine."""
+
+from logfolds.errors import BadTable, NoLog, NotNet, OtherBook
+from logfolds.machines import IN_BOTH, IN_EITHER, IN_FIRST_ALONE, IN_JUST_ONE
+from logfolds.machines import joined, listing_table, net_rows, table_of
+from logfolds.values import is_ascending, is_integer
+from logfolds.walks import all_rows, least_row, longest_walk, row_count
+
+
+def is_move(thing, book, many):
+    """Whether any value is a move by an entry of the book to one of so many states."""
+    if not isinstance(thing, tuple) or len(thing) != 2:
+        return False
+    entry, state = thing
+    return book.is_entry(entry) and is_integer(state) and 0 <= state < many
+
+
+def is_row(thing, book, many):
+    """Whether any value is a row of a machine with so many states."""
+    if not isinstance(thing, tuple) or len(thing) != 2:
+        return False
+    is_in, moves = thing
+    if not isinstance(is_in, bool) or not isinstance(moves, tuple):
+        return False
+    return all([is_move(move, book, many) for move in moves]) and is_ascending([move[0] for move in moves])
+
+
+class LogSet:
+    """A set of nets of a book. It is made by the class methods, and by the operators."""
+
+    def __init__(self, book, table):
+        self._book = book
+        self._table = table
+
+    @classmethod
+    def of(cls, book, *rows):
+        """The set of these nets."""
+        for row in rows:
+            if not book.is_net(row):
+                raise NotNet(row)
+        return cls(book, listing_table(rows))
+
+    @classmethod
+    def every(cls, book):
+        """The set of all nets."""
+        return cls(book, table_of(net_rows(book), book.entries))
+
+    @classmethod
+    def none(cls, book):
+        """The set without logs."""
+        return cls(book, ())
+
+    @classmethod
+    def machine(cls, book, *rows):
+        """The set of the nets that a machine accepts, which need not be the least one."""
+        for row in rows:
+            if not is_row(row, book, len(rows)):
+                raise BadTable(row)
+        entries = book.entries
+        return cls(book, table_of(joined(entries, IN_BOTH, rows, net_rows(book)), entries))
+
+    @property
+    def book(self):
+        """The book."""
+        return self._book
+
+    @property
+    def table(self):
+        """The table."""
+        return self._table
+
+    def __eq__(self, other):
+        return isinstance(other, LogSet) and self._book == other._book and self._table == other._table
+
+    def __bool__(self):
+        return bool(self._table)
+
+    def __contains__(self, x):
+        """Whether any value is a log of this set."""
+        if not isinstance(x, tuple) or self._table == ():
+            return False
+        state = 0
+        for entry in x:
+            # A list or a dict cannot be looked up, so it is asked first whether this is an entry.
+            state = dict(self._table[state][1]).get(entry) if self._book.is_entry(entry) else None
+            if state is None:
+                return False
+        return self._table[state][0]
+
+    def _joint_rows(self, other, kind, until_one=False):
+        """The rows of a machine for the wanted kind of logs of both, or those up to the first that accepts."""
+        if self._book != other._book:
+            raise OtherBook()
+        return joined(self._book.entries, kind, self._table, other._table, until_one)
+
+    def __and__(self, other):
+        """The logs of both."""
+        return LogSet(self._book, table_of(self._joint_rows(other, IN_BOTH), self._book.entries))
+
+    def __or__(self, other):
+        """The logs of this set or the other one."""
+        return LogSet(self._book, table_of(self._joint_rows(other, IN_EITHER), self._book.entries))
+
+    def __sub__(self, other):
+        """The logs of this set that are not in the other one."""
+        return LogSet(self._book, table_of(self._joint_rows(other, IN_FIRST_ALONE), self._book.entries))
+
+    def __invert__(self):
+        """The other nets of the book."""
+        entries = self._book.entries
+        return LogSet(self._book, table_of(joined(entries, IN_FIRST_ALONE, net_rows(self._book), self._table), entries))
+
+    def within(self, b):
+        """Whether each log of this set is in the other one."""
+        return least_row(self._joint_rows(b, IN_FIRST_ALONE, True)) is None
+
+    def least(self):
+        """The least log."""
+        if not self._table:
+            raise NoLog()
+        return least_row(self._table)
+
+    def longest(self):
+        """The greatest length of a log, or None if there is no greatest one."""
+        if not self._table:
+            raise NoLog()
+        # Each state of a table leads to a log, so the longest walk is the longest log.
+        return longest_walk({state: [to for _, to in moves] for state, (_, moves) in enumerate(self._table)})
+
+    def count(self, length):
+        """How many logs of this length there are."""
+        return row_count(self._table, length) if self._table else 0
+
+    def logs(self):
+        """Yields all logs in their order, one by one."""
+        if not self._table:
+            return
+        table = self._table
+        most = self.longest()
+        for row in all_rows(table, most):
+            yield row
+
+    def parting(self, b):
+        """The least log that is in just one of both sets, or None."""
+        return least_row(self._joint_rows(b, IN_JUST_ONE, True))

@@ -1,0 +1,148 @@
+"""Walks through the states of a machine: the least, the longest, how many there are, and all of them."""
+
+
+def least_row(rows):
+    """The least row that a machine accepts whose states are numbered in the order in which they are met, or None."""
+    sources = {0: None}
+    for state, (is_in, moves) in enumerate(rows):
+        if is_in:
+            return row_to(sources, state)
+        for entry, to in moves:
+            # The state that is met first is the one to which the least row leads.
+            sources.setdefault(to, (entry, state))
+    return None
+
+
+def row_to(sources, state):
+    """The row that leads to a state; the sources tell for each state the last entry and the state before it."""
+    found = []
+    while sources[state] is not None:
+        entry, state = sources[state]
+        found.append(entry)
+    return tuple(reversed(found))
+
+
+def longest_walk(followers):
+    """The greatest number of moves, one after the other, in a graph, or None if there is no greatest one.
+
+    The followers tell for each node to which nodes one comes from it by one move.
+    """
+    pending = {node: 0 for node in followers}
+    for nodes in followers.values():
+        for node in nodes:
+            pending[node] = pending[node] + 1
+    ready = [node for node in followers if pending[node] == 0]
+    lengths = {node: 0 for node in ready}
+    done = 0
+    while ready:
+        node = ready.pop()
+        done = done + 1
+        for other in followers[node]:
+            lengths[other] = max(lengths.get(other, 0), lengths[node] + 1)
+            pending[other] = pending[other] - 1
+            if pending[other] == 0:
+                ready.append(other)
+    # What is on a ring, or behind one, never becomes ready.
+    return max(list(lengths.values())) if done == len(followers) else None
+
+
+def single_jumps(rows):
+    """For each state, the states to which one comes by one move, with the number of such moves."""
+    found = []
+    for _, moves in rows:
+        jumps = {}
+        for _, to in moves:
+            jumps[to] = jumps.get(to, 0) + 1
+        found.append(jumps)
+    return found
+
+
+def doubled_jumps(jumps):
+    """The same for two jumps, one after the other."""
+    found = []
+    for first in jumps:
+        both = {}
+        for middle, many in first.items():
+            for to, more in jumps[middle].items():
+                both[to] = both.get(to, 0) + many * more
+        found.append(both)
+    return found
+
+
+def work_of(jumps):
+    """How much work it is to make all these jumps once."""
+    return sum([len(first) + 1 for first in jumps])
+
+
+def doubling_work(jumps):
+    """How much work it is to double these jumps."""
+    return sum([len(jumps[middle]) + 1 for first in jumps for middle in first])
+
+
+def jumps_for(rows, length):
+    """Jumps by 1, 2, 4 .. entries, as far as they make a walk of this length less work."""
+    jumps = [single_jumps(rows)]
+    least_work = length * work_of(jumps[0])
+    wanted = 1
+    while length >> len(jumps) > 0 and doubling_work(jumps[-1]) <= least_work:
+        jumps.append(doubled_jumps(jumps[-1]))
+        work = (length >> (len(jumps) - 1)) * work_of(jumps[-1])
+        if work < least_work:
+            least_work = work
+            wanted = len(jumps)
+    return jumps[:wanted]
+
+
+def row_count(rows, length):
+    """How many rows of this length a machine accepts."""
+    counts = [1 if is_in else 0 for is_in, _ in rows]
+    rest = length
+    all_jumps = jumps_for(rows, length)
+    for k in reversed(range(len(all_jumps))):
+        while rest >> k > 0:
+            counts = [sum([many * counts[to] for to, many in jumps.items()]) for jumps in all_jumps[k]]
+            rest = rest - (1 << k)
+    return counts[0]
+
+
+def next_moves(rows, ables):
+    """For each state, its moves to the states that are able."""
+    return [tuple([move for move in moves if ables[move[1]]]) for _, moves in rows]
+
+
+def rows_along(levels):
+    """Yields, ascending, the rows that are as long as there are levels; there is such a row.
+
+    A level has for each state the moves behind which just as many can follow as there are levels before it.
+    """
+    row = []
+    waiting = [(0, None, 0)]
+    while waiting:
+        many, entry, state = waiting.pop()
+        del row[many:]
+        if entry is not None:
+            row.append(entry)
+        many = len(levels) - len(row)
+        for level in reversed(range(many)):
+            moves = levels[level][state]
+            if len(moves) > 1:
+                waiting.extend([(len(row), *move) for move in reversed(moves[1:])])
+            entry, state = moves[0]
+            row.append(entry)
+        yield tuple(row)
+
+
+def all_rows(rows, most):
+    """Yields the rows that a machine accepts, by their lengths up to the greatest one, or endlessly for None."""
+    ables = tuple([is_in for is_in, _ in rows])
+    known = {}
+    levels = []
+    while most is None or len(levels) <= most:
+        if ables[0]:
+            for row in rows_along(levels):
+                yield row
+        # The levels come again after some time, and are not made anew then.
+        if ables not in known:
+            known[ables] = next_moves(rows, ables)
+        levels.append(known[ables])
+        ables = tuple([moves != () for moves in levels[-1]])
