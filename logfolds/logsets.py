@@ -64,6 +64,11 @@ class LogSet:
         """The book."""
         return self._book
 
+    @book.setter
+    def book(self, value):
+        # Programs have an attribute of this name, and a name that is assigned needs a setter in each class (L5).
+        self._book = value
+
     @property
     def table(self):
         """The table."""

@@ -104,7 +104,7 @@ class Program:
             raise InvalidText(at + 3 + len(steps))
         if clash_of(entries, *rules) is not None:
             raise InvalidText(len(lines))
-        book = Book.of(entries, rules)
+        book = Book(entries, *rules)
         return cls(book, places, starts, ends, *steps)
 
     @property

@@ -86,7 +86,21 @@ class Language(unittest.TestCase):
                     self.assertIn(inner.name, METHODS, place)
         for place, node in nodes(ast.FunctionDef):
             for mark in node.decorator_list:
-                self.assertIn(mark.id, ("property", "classmethod", "staticmethod"), place)
+                if isinstance(mark, ast.Attribute):
+                    self.assertEqual((mark.value.id, mark.attr), (node.name, "setter"), place)
+                else:
+                    self.assertIn(mark.id, ("property", "classmethod", "staticmethod"), place)
+
+    def test_a_property_that_is_assigned_has_its_setter(self):
+        # L5: a name is assigned only if every class that has a property of that name has its setter.
+        assigned = {
+            node.attr for _, node in nodes(ast.Attribute) if isinstance(node.ctx, (ast.Store, ast.Del))}
+        self.assertIn("book", assigned)
+        for place, kind in nodes(ast.ClassDef):
+            methods = [node for node in kind.body if isinstance(node, ast.FunctionDef)]
+            marks = {(node.name, ast.unparse(mark)) for node in methods for mark in node.decorator_list}
+            for name in [name for name, mark in marks if mark == "property" and name in assigned]:
+                self.assertIn((name, name + ".setter"), marks, place)
 
     def test_builtins(self):
         for path, text in files():
