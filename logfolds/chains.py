@@ -1,5 +1,7 @@
 """Chains of ways: which logs stand at which places of a program."""
 
+from logfolds.machines import merged_rows
+from logfolds.met import Met
 from logfolds.ways import ways_of
 
 
@@ -9,18 +11,19 @@ class Chains:
     The places at which a log stands tell, with its last entry, at which it stands with an entry more.
     """
 
-    def __init__(self, program):
+    def __init__(self, program, ways):
         starts = {place: True for place in program.starts}
         below = []
         self._entries = program.book.entries
         self._above = {}
-        for way in ways_of(program):
+        for way in ways:
             if way[0] == "above":
                 self._above.setdefault(way[1:4], []).append(way[4])
             elif way[0] == "stays" and way[1] == "" and way[2] in starts:
                 below.append(way[3])
         # The places at which the log () stands: what can be put above it from a start can be so from them.
         self.below = tuple(sorted(set(below)))
+        self._starts = program.starts
 
     def places_above(self, last, places, entry):
         """Where a log stands with an entry more; it has this last entry, or "", and stands at these places."""
@@ -33,26 +36,27 @@ class Chains:
             last = entry
         return places
 
-    def kinds(self):
-        """All kinds of logs that stand, as a list of pairs (places, moves); the moves are pairs (entry, kind).
+    def places_of(self, log):
+        """The places to which there is a chain of the ways with this log."""
+        # A closed set need not have a way upon the ground from each place of below, so chains begin at the starts.
+        return self.places_behind("", self._starts, log) if log else self.below
 
-        The first one is that of (); it is there even if it stands nowhere.
+    def kinds(self):
+        """All kinds of logs that stand, as a list of (last, places, moves); the moves are pairs (entry, kind).
+
+        The first one is that of (); it is there even if it stands nowhere. They are told in the order of their
+        least logs.
         """
-        kinds = [("", self.below)]
-        numbers = {kinds[0]: 0}
+        kinds = Met(("", self.below))
         found = []
-        while len(found) < len(kinds):
-            last, places = kinds[len(found)]
+        while len(found) < len(kinds.things):
+            last, places = kinds.things[len(found)]
             moves = []
             for entry in self._entries:
-                kind = (entry, self.places_above(last, places, entry))
-                if kind[1] == ():
-                    continue
-                if kind not in numbers:
-                    numbers[kind] = len(kinds)
-                    kinds.append(kind)
-                moves.append((entry, numbers[kind]))
-            found.append((places, tuple(moves)))
+                above = self.places_above(last, places, entry)
+                if above != ():
+                    moves.append((entry, kinds.number_of((entry, above))))
+            found.append((last, places, tuple(moves)))
         return found
 
     def nodes_above(self, node):
@@ -69,3 +73,28 @@ class Chains:
                 found[node] = self.nodes_above(node)
                 waiting.extend(found[node])
         return found
+
+
+def chains_of(program):
+    """The chains of the ways of a program."""
+    known = program.worked_out
+    if "chains" not in known:
+        known["chains"] = Chains(program, ways_of(program))
+    return known["chains"]
+
+
+def kinds_of(program):
+    """All kinds of logs that stand, as Chains.kinds tells them."""
+    known = program.worked_out
+    if "kinds" not in known:
+        known["kinds"] = chains_of(program).kinds()
+    return known["kinds"]
+
+
+def place_rows(program):
+    """The rows (places, moves) of a machine that tells for each net the places at which it stands."""
+    known = program.worked_out
+    if "place rows" not in known:
+        # Kinds with unlike last entries are often alike in all else.
+        known["place rows"] = merged_rows([(places, moves) for _, places, moves in kinds_of(program)])
+    return known["place rows"]

@@ -2,7 +2,7 @@
 
 from logfolds.errors import BadTable, NoLog, NotNet, OtherBook
 from logfolds.machines import IN_BOTH, IN_EITHER, IN_FIRST_ALONE, IN_JUST_ONE
-from logfolds.machines import joined, listing_table, net_rows, table_of
+from logfolds.machines import joined, listing_table, maps_of, nets_table, table_of
 from logfolds.values import is_ascending, is_integer
 from logfolds.walks import all_rows, least_row, longest_walk, row_count
 
@@ -31,6 +31,8 @@ class LogSet:
     def __init__(self, book, table):
         self._book = book
         self._table = table
+        # Each sign and each look into the set needs them, so they are made once.
+        self._maps = maps_of(table)
 
     @classmethod
     def of(cls, book, *rows):
@@ -43,7 +45,7 @@ class LogSet:
     @classmethod
     def every(cls, book):
         """The set of all nets."""
-        return cls(book, table_of(net_rows(book), book.entries))
+        return cls(book, nets_table(book))
 
     @classmethod
     def none(cls, book):
@@ -57,7 +59,7 @@ class LogSet:
             if not is_row(row, book, len(rows)):
                 raise BadTable(row)
         entries = book.entries
-        return cls(book, table_of(joined(entries, IN_BOTH, rows, net_rows(book)), entries))
+        return cls(book, table_of(joined(entries, IN_BOTH, maps_of(rows), maps_of(nets_table(book))), entries))
 
     @property
     def book(self):
@@ -87,7 +89,7 @@ class LogSet:
         state = 0
         for entry in x:
             # A list or a dict cannot be looked up, so it is asked first whether this is an entry.
-            state = dict(self._table[state][1]).get(entry) if self._book.is_entry(entry) else None
+            state = self._maps[state][1].get(entry) if self._book.is_entry(entry) else None
             if state is None:
                 return False
         return self._table[state][0]
@@ -96,7 +98,7 @@ class LogSet:
         """The rows of a machine for the wanted kind of logs of both, or those up to the first that accepts."""
         if self._book != other._book:
             raise OtherBook()
-        return joined(self._book.entries, kind, self._table, other._table, until_one)
+        return joined(self._book.entries, kind, self._maps, other._maps, until_one)
 
     def __and__(self, other):
         """The logs of both."""
@@ -113,7 +115,8 @@ class LogSet:
     def __invert__(self):
         """The other nets of the book."""
         entries = self._book.entries
-        return LogSet(self._book, table_of(joined(entries, IN_FIRST_ALONE, net_rows(self._book), self._table), entries))
+        nets = maps_of(nets_table(self._book))
+        return LogSet(self._book, table_of(joined(entries, IN_FIRST_ALONE, nets, self._maps), entries))
 
     def within(self, b):
         """Whether each log of this set is in the other one."""

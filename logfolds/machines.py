@@ -20,6 +20,11 @@ def net_rows(book):
     return rows
 
 
+def nets_table(book):
+    """The table of the set of all nets."""
+    return table_of(net_rows(book), book.entries)
+
+
 def listing_rows(listed):
     """The rows of a machine that accepts just these rows of entries; it has a state for each beginning of one."""
     followers = [{}]
@@ -65,14 +70,12 @@ def maps_of(rows):
     return found
 
 
-def joined(entries, kind, first, second, until_one=False):
+def joined(entries, kind, firsts, seconds, until_one=False):
     """The rows of a machine for the wanted kind of nets of two machines, or those up to the first that accepts.
 
-    The states are numbered in the order in which they are met.
+    Both are told by their maps. The states are numbered in the order in which they are met.
     """
-    firsts = maps_of(first)
-    seconds = maps_of(second)
-    pairs = [(0 if first else None, 0 if second else None)]
+    pairs = [(0 if 0 in firsts else None, 0 if 0 in seconds else None)]
     numbers = {pairs[0]: 0}
     rows = []
     while len(rows) < len(pairs):
@@ -112,6 +115,8 @@ def living_rows(rows, entries):
             if state not in living:
                 living[state] = True
                 waiting.append(state)
+    if len(living) == len(rows):
+        return rows
     return [(is_in, tuple([move for move in moves if move[1] in living])) for is_in, moves in rows]
 
 
@@ -171,6 +176,15 @@ def numbered(rows, classes):
                 met.append(to)
         table.append((is_in, tuple([(entry, numbers[classes[to]]) for entry, to in moves])))
     return () if table[0] == GONE else tuple(table)
+
+
+def merged_rows(rows):
+    """The same machine, with one state for those whose rows are equal; those are one at a glance."""
+    numbers = {}
+    for row in rows:
+        numbers.setdefault(row, len(numbers))
+    news = [numbers[row] for row in rows]
+    return [(mark, tuple([(entry, news[to]) for entry, to in moves])) for mark, moves in numbers]
 
 
 def table_of(rows, entries):

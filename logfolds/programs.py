@@ -84,6 +84,8 @@ class Program:
         self.ends = ends
         self._steps = tuple(sorted(set(steps)))
         self._numbers = numbers_by_place(self._steps)
+        # What other files work out for this program: they keep it here, so that it is done once.
+        self.worked_out = {}
 
     @classmethod
     def of(cls, book, places, starts, ends, steps):

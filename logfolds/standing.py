@@ -1,6 +1,6 @@
 """The logs that stand and those that are left, by all runs of a program at once; and how long they grow."""
 
-from logfolds.chains import Chains
+from logfolds.chains import chains_of, place_rows
 from logfolds.errors import NoLog
 from logfolds.logsets import LogSet
 from logfolds.machines import table_of
@@ -8,12 +8,20 @@ from logfolds.steps import is_place
 from logfolds.walks import longest_walk
 
 
+def standing_table(program, places):
+    """The table of the set of the logs that stand at some of these places."""
+    known = program.worked_out
+    key = ("standing", places)
+    if key not in known:
+        wanted = {place: True for place in places}
+        rows = [(any([place in wanted for place in stood]), moves) for stood, moves in place_rows(program)]
+        known[key] = table_of(rows, program.book.entries)
+    return known[key]
+
+
 def standing_at(program, places):
     """The set of the logs that stand at some of these places."""
-    wanted = {place: True for place in places}
-    kinds = Chains(program).kinds()
-    rows = [(any([place in wanted for place in stood]), moves) for stood, moves in kinds]
-    return LogSet(program.book, table_of(rows, program.book.entries))
+    return LogSet(program.book, standing_table(program, places))
 
 
 def standing(program, place):
@@ -28,15 +36,14 @@ def left(program):
 
 def stands(program, place, log):
     """Whether a net stands at a place."""
-    chains = Chains(program)
-    return place in chains.places_behind("", chains.below, log)
+    return place in chains_of(program).places_of(log)
 
 
 def most(program):
     """The greatest length of a log that stands at any place, or None if there is no greatest one."""
     if program.starts == ():
         raise NoLog()
-    return longest_walk(Chains(program).graph())
+    return longest_walk(chains_of(program).graph())
 
 
 def rows_from(graph, nodes):
@@ -56,7 +63,7 @@ def rows_from(graph, nodes):
 
 def growth_of(program):
     """Any growth of a program, or None."""
-    chains = Chains(program)
+    chains = chains_of(program)
     graph = chains.graph()
     reached = rows_from(graph, [("", place) for place in chains.below])
     for node, log in reached.items():
@@ -76,7 +83,7 @@ def is_growing_net(book, log, row):
 
 def stands_always(chains, place, log, row):
     """Whether a log stands at a place, with a row behind it any number of times."""
-    stood = chains.places_behind("", chains.below, log)
+    stood = chains.places_of(log)
     if place not in stood:
         return False
     stood = chains.places_behind(log[-1] if log else "", stood, row)
@@ -99,4 +106,4 @@ def growth_holds(program, thing):
     place, log, row = thing
     if not is_place(place, program.places) or not is_growing_net(program.book, log, row):
         return False
-    return stands_always(Chains(program), place, log, row)
+    return stands_always(chains_of(program), place, log, row)

@@ -127,7 +127,10 @@ def first_ways(program):
 
 def ways_of(program):
     """The ascending tuple of the ways of a program: the least closed set."""
-    return tuple(sorted(Closing(program, first_ways(program)).found))
+    known = program.worked_out
+    if "ways" not in known:
+        known["ways"] = tuple(sorted(Closing(program, first_ways(program)).found))
+    return known["ways"]
 
 
 def closed_holds(program, thing):
