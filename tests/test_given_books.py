@@ -4,6 +4,7 @@ import random
 import unittest
 
 from logfolds.books import Book
+from logfolds.ends import endings
 from logfolds.logsets import LogSet
 from logfolds.programs import Program
 from logfolds.standing import left, standing
@@ -40,7 +41,7 @@ class GivenBooks(unittest.TestCase):
             other = LogSet.machine(book, *drawn_machine(draw, book, 3))
             made = [
                 some, other, LogSet.every(book), LogSet.none(book), some & other, some | other, some - other, ~some,
-                standing(program, 0), left(program)]
+                standing(program, 0), left(program), endings(program, 0), endings(program, 0, some)]
             for logset in made:
                 self.assertIs(logset.book, book)
                 self.assertIsInstance(vars(LogSet)["book"], property)

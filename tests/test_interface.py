@@ -6,7 +6,10 @@ import inspect
 import pathlib
 import unittest
 
+from logfolds.ends import endings, fewest, trap, unclear_log
 from logfolds.logsets import LogSet
+from logfolds.programs import Program
+from logfolds.roads import length_of, road, run_of
 from logfolds.standing import growth_holds, left, most
 from logfolds.ways import ways_of
 
@@ -26,6 +29,20 @@ FUNCTIONS = {
     "standing.most": ["program"],
     "standing.growth_of": ["program"],
     "standing.growth_holds": ["program", "thing"],
+    "roads.road": ["program", "place", "log"],
+    "roads.road_holds": ["program", "place", "log", "thing"],
+    "roads.length_of": ["road"],
+    "roads.step_at": ["road", "index"],
+    "roads.run_of": ["road", "most="],
+    "fences.fence": ["program", "place", "log"],
+    "fences.fence_holds": ["program", "place", "log", "thing"],
+    "ends.endings": ["program", "place", "goal"],
+    "ends.can_end": ["program", "place", "log", "goal"],
+    "ends.fewest": ["program", "place", "log", "goal"],
+    "ends.ending_run": ["program", "place", "log", "goal", "most="],
+    "ends.trap": ["program"],
+    "ends.stuck_state": ["program"],
+    "ends.unclear_log": ["program", "other"],
 }
 CLASSES = {
     "books.Book": {
@@ -44,6 +61,10 @@ CLASSES = {
         "logs": ["self"], "parting": ["self", "b"], "__and__": None, "__or__": None, "__sub__": None,
         "__invert__": None, "__eq__": None, "__bool__": None, "__contains__": None},
 }
+DEFAULTS = {
+    "roads.run_of": {"most": 1000}, "ends.endings": {"goal": None}, "ends.can_end": {"goal": None},
+    "ends.fewest": {"goal": None}, "ends.ending_run": {"goal": None, "most": 1000},
+}
 PROPERTIES = {
     "books.Book": ["entries", "rules", "text"], "programs.Program": ["steps", "text"],
     "logsets.LogSet": ["book", "table"],
@@ -58,9 +79,22 @@ def found(name):
 
 
 def parameters(thing):
-    """The names of the parameters of a function, those for any number of values with their star."""
-    marks = {inspect.Parameter.VAR_POSITIONAL: "*", inspect.Parameter.VAR_KEYWORD: "**"}
-    return [marks.get(each.kind, "") + each.name for each in inspect.signature(thing).parameters.values()]
+    """The names of the parameters of a function, those for any number of values with their star.
+
+    Those that are passed by name only have a sign behind them, where none with a star stands before them.
+    """
+    each = list(inspect.signature(thing).parameters.values())
+    kinds = inspect.Parameter
+    has_star = any(one.kind == kinds.VAR_POSITIONAL for one in each)
+    before = {kinds.VAR_POSITIONAL: "*", kinds.VAR_KEYWORD: "**"}
+    behind = {} if has_star else {kinds.KEYWORD_ONLY: "="}
+    return [before.get(one.kind, "") + one.name + behind.get(one.kind, "") for one in each]
+
+
+def defaults(thing):
+    """The default values of the parameters of a function."""
+    each = inspect.signature(thing).parameters.values()
+    return {one.name: one.default for one in each if one.default is not inspect.Parameter.empty}
 
 
 class Names(unittest.TestCase):
@@ -70,6 +104,11 @@ class Names(unittest.TestCase):
             module, thing = found(name)
             self.assertEqual(thing.__module__, module.__name__)
             self.assertEqual(parameters(thing), wanted, name)
+
+    def test_defaults(self):
+        for name in FUNCTIONS:
+            _, thing = found(name)
+            self.assertEqual(defaults(thing), DEFAULTS.get(name, {}), name)
 
     def test_classes(self):
         for name, methods in CLASSES.items():
@@ -110,6 +149,18 @@ class Examples(unittest.TestCase):
         self.assertEqual(
             [left(UPDOWN).table, most(UPDOWN), growth_holds(UPDOWN, (1, (), ("a",)))],
             [((True, (("a", 0),)),), None, True])
+
+    def test_roads(self):
+        told = road(UPDOWN, 1, ("a", "a"))
+        self.assertEqual([length_of(told), run_of(told)], [3, (1, 1, 0)])
+
+    def test_ends(self):
+        nothing = LogSet.of(PILE, ())
+        self.assertEqual(
+            [endings(UPDOWN, 1, nothing) == left(UPDOWN), fewest(UPDOWN, 0, ("a", "a"), nothing)], [True, 3])
+        one, down = Program(PILE, 1, (0,), (0,)), Program(PILE, 1, (0,), (0,), (0, ("a",), "b", 0))
+        self.assertEqual(
+            [trap(UPDOWN), unclear_log(UPDOWN, one), unclear_log(UPDOWN, down)], [None, ("a",), None])
 
 
 if __name__ == "__main__":

@@ -1,4 +1,4 @@
-"""The rules of the language that a small script can count (L1, L2, L5, L8, L10, L14, L23, L27)."""
+"""The rules of the language that a small script can count (L1, L2, L5, L7, L8, L10, L14 to L19, L23, L25 to L27)."""
 
 import ast
 import builtins
@@ -11,6 +11,14 @@ BUILTINS = (
     "len", "range", "enumerate", "zip", "min", "max", "sum", "abs", "sorted", "reversed", "int", "str", "bool", "bytes",
     "list", "tuple", "dict", "set", "isinstance", "ord", "repr", "any", "all", "divmod", "map", "iter", "next",
     "Exception", "ValueError", "TypeError", "KeyError", "IndexError", "NotImplemented")
+PLAIN_METHODS = (
+    "add", "append", "clear", "copy", "count", "endswith", "extend", "find", "get", "index", "insert", "items", "join", "keys",
+    "pop", "remove", "replace", "reverse", "setdefault", "split", "startswith", "strip", "update", "values", "bit_length")
+BARRED_NAMES = (
+    "register", "mro", "elements", "open", "input", "law", "version_info", "with_traceback", "add_note", "attrgetter",
+    "breakpoint", "builtins", "compile", "copyright", "credits", "delattr", "dir", "eval", "exec", "exit", "gc",
+    "getattr", "globals", "hasattr", "help", "id", "importlib", "license", "locals", "methodcaller", "os", "quit",
+    "setattr", "super", "type", "vars", "sys")
 METHODS = (
     "__init__", "__eq__", "__len__", "__add__", "__or__", "__and__", "__sub__", "__invert__", "__bool__", "__contains__",
     "__iadd__")
@@ -70,8 +78,101 @@ class Language(unittest.TestCase):
     def test_what_is_not_used(self):
         # The language allows += and generator expressions in some places only (L5, L7); here they stand in none.
         barred = (
-            ast.Global, ast.AsyncFunctionDef, ast.Await, ast.Div, ast.Try, ast.AnnAssign, ast.AugAssign, ast.GeneratorExp)
+            ast.Global, ast.AsyncFunctionDef, ast.Await, ast.Div, ast.AnnAssign, ast.AugAssign, ast.GeneratorExp,
+            ast.Nonlocal, ast.With, ast.Match, ast.NamedExpr)
         self.assertEqual([place for place, _ in nodes(barred)], [])
+
+    def test_only_own_errors_are_caught(self):
+        own = {node.name for _, node in nodes(ast.ClassDef)}
+        for place, node in nodes(ast.Try):
+            self.assertEqual((node.orelse, node.finalbody), ([], []), place)
+            for handler in node.handlers:
+                self.assertIn(handler.type.id, own, place)
+        for place, node in nodes(ast.Raise):
+            self.assertIsInstance(node.exc, ast.Call, place)
+            self.assertIn(node.exc.func.id, own, place)
+
+    def test_stars(self):
+        # L7: behind a star of a call stand only names, attributes off a name, literals, and lists and tuples of these.
+        for place, node in nodes(ast.Call):
+            for part in node.args:
+                if isinstance(part, ast.Starred):
+                    value = part.value
+                    plain = isinstance(value, ast.Name) or (
+                        isinstance(value, ast.Attribute) and isinstance(value.value, ast.Name))
+                    self.assertTrue(plain, place)
+
+    def test_names_of_imports_and_classes(self):
+        # L15: no parameter and no local variable has the name of a class or an import of its file.
+        for path, text in files():
+            tree = ast.parse(text)
+            taken = {alias.name for node in ast.walk(tree) if isinstance(node, ast.ImportFrom) for alias in node.names}
+            taken |= {node.name for node in ast.walk(tree) if isinstance(node, ast.ClassDef)}
+            used = {node.arg for node in ast.walk(tree) if isinstance(node, ast.arg)}
+            used |= {
+                node.id for node in ast.walk(tree) if isinstance(node, ast.Name) and isinstance(node.ctx, ast.Store)}
+            self.assertEqual(taken & used, set(), path)
+            functions = {node.name for node in ast.walk(tree) if isinstance(node, ast.FunctionDef)}
+            self.assertEqual((taken | used | functions) & set(BARRED_NAMES), set(), path)
+
+    def test_all_imports_are_used_and_stand_where_they_are_defined(self):
+        trees = {"logfolds." + path.stem: ast.parse(text) for path, text in files()}
+        for name, tree in trees.items():
+            read = {node.id for node in ast.walk(tree) if isinstance(node, ast.Name)}
+            for node in tree.body:
+                if isinstance(node, ast.ImportFrom):
+                    self.assertLessEqual({alias.name for alias in node.names}, read, name)
+                    if node.module in trees:
+                        body = trees[node.module].body
+                        told = {each.name for each in body if isinstance(each, (ast.FunctionDef, ast.ClassDef))}
+                        told |= {each.targets[0].id for each in body if isinstance(each, ast.Assign)}
+                        self.assertLessEqual({alias.name for alias in node.names}, told, name)
+
+    def test_no_imports_go_round(self):
+        waiting = {path.stem: {
+            node.module.split(".")[1] for node in ast.parse(text).body
+            if isinstance(node, ast.ImportFrom) and node.module.startswith("logfolds.")} for path, text in files()}
+        while waiting:
+            ready = [name for name, needed in waiting.items() if not needed & set(waiting)]
+            self.assertTrue(ready, waiting)
+            waiting = {name: needed for name, needed in waiting.items() if name not in ready}
+
+    def test_methods(self):
+        # L25, L26: a method that is called is an own one, or one of the builtin values that may be.
+        own = {node.name for _, kind in nodes(ast.ClassDef) for node in kind.body if isinstance(node, ast.FunctionDef)}
+        for place, node in nodes(ast.Call):
+            if isinstance(node.func, ast.Attribute):
+                self.assertIn(node.func.attr, {*own, *PLAIN_METHODS}, place)
+                if node.func.attr not in own:
+                    self.assertEqual(node.keywords, [], place)
+
+    def test_methods_and_attributes_have_their_own_names(self):
+        # L18: no name is a method and an attribute; the book of a set of logs, a property with a setter, is one (L5).
+        marks = [node for _, kind in nodes(ast.ClassDef) for node in kind.body if isinstance(node, ast.FunctionDef)]
+        stored = {node.attr for _, node in nodes(ast.Attribute) if isinstance(node.ctx, ast.Store)}
+        self.assertEqual({node.name for node in marks} & stored, {"book"})
+        # L18: an attribute that is read is assigned by some class.
+        read = {node.attr for _, node in nodes(ast.Attribute) if isinstance(node.ctx, ast.Load)}
+        own = {node.name for node in marks}
+        self.assertLessEqual(read - own - set(PLAIN_METHODS), stored | {"setter"})
+
+    def test_what_is_iterated_at_once_is_not_kept(self):
+        # L23: zip, enumerate, reversed, range and views are not assigned, and generators are not, either.
+        yielding = {
+            node.name for _, node in nodes(ast.FunctionDef)
+            if any(isinstance(each, (ast.Yield, ast.YieldFrom)) for each in ast.walk(node))}
+        names = {"zip", "enumerate", "reversed", "range", "items", "keys", "values", "map", *yielding}
+        for place, node in nodes((ast.Assign, ast.Return)):
+            if isinstance(node.value, ast.Call):
+                func = node.value.func
+                self.assertNotIn(func.id if isinstance(func, ast.Name) else func.attr, names, place)
+
+    def test_sets_are_not_kept_but_in_plain_names(self):
+        for place, node in nodes(ast.Call):
+            if isinstance(node.func, ast.Name) and node.func.id == "frozenset":
+                self.fail(place)
+        for place, node in nodes(ast.Return):
+            self.assertNotIsInstance(node.value, (ast.Set, ast.SetComp), place)
 
     def test_strings(self):
         for place, node in nodes(ast.Constant):
