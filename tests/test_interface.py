@@ -6,10 +6,14 @@ import inspect
 import pathlib
 import unittest
 
+from logfolds.books import Book, clash_of
+from logfolds.console import Console
 from logfolds.ends import endings, fewest, trap, unclear_log
 from logfolds.logsets import LogSet
+from logfolds.meanings import Meaning, rules_that_fit
 from logfolds.programs import Program
 from logfolds.roads import length_of, road, run_of
+from logfolds.settled import Forwarder, held
 from logfolds.standing import growth_holds, left, most
 from logfolds.ways import ways_of
 
@@ -43,6 +47,11 @@ FUNCTIONS = {
     "ends.trap": ["program"],
     "ends.stuck_state": ["program"],
     "ends.unclear_log": ["program", "other"],
+    "settled.settled": ["program", "place", "log"],
+    "settled.held": ["program"],
+    "settled.holding": ["program", "many"],
+    "meanings.rules_that_fit": ["condition_count", "**deeds"],
+    "findings.finding_holds": ["thing"],
 }
 CLASSES = {
     "books.Book": {
@@ -60,6 +69,12 @@ CLASSES = {
         "within": ["self", "b"], "least": ["self"], "longest": ["self"], "count": ["self", "length"],
         "logs": ["self"], "parting": ["self", "b"], "__and__": None, "__or__": None, "__sub__": None,
         "__invert__": None, "__eq__": None, "__bool__": None, "__contains__": None},
+    "settled.Forwarder": {
+        "__init__": ["self", "program", "place"], "go": ["self", "number"], "twin": ["self"], "__iadd__": None,
+        "__len__": None, "__eq__": None},
+    "meanings.Meaning": {
+        "__init__": ["self", "book", "many", "*deeds"], "after": ["self", "condition", "row"], "misfit": ["self"]},
+    "console.Console": {"__init__": ["self"], "say": ["self", "line"]},
 }
 DEFAULTS = {
     "roads.run_of": {"most": 1000}, "ends.endings": {"goal": None}, "ends.can_end": {"goal": None},
@@ -67,8 +82,9 @@ DEFAULTS = {
 }
 PROPERTIES = {
     "books.Book": ["entries", "rules", "text"], "programs.Program": ["steps", "text"],
-    "logsets.LogSet": ["book", "table"],
+    "logsets.LogSet": ["book", "table"], "settled.Forwarder": ["sent", "kept"], "meanings.Meaning": ["fits"],
 }
+ATTRIBUTES = {"programs.Program": ["book", "places", "starts", "ends"], "settled.Forwarder": ["place", "log"]}
 
 
 def found(name):
@@ -124,6 +140,13 @@ class Names(unittest.TestCase):
             for word in words:
                 self.assertIsInstance(vars(found(name)[1])[word], property, (name, word))
 
+    def test_attributes(self):
+        made = {"programs.Program": UPDOWN, "settled.Forwarder": Forwarder(UPDOWN)}
+        for name, words in ATTRIBUTES.items():
+            for word in words:
+                self.assertIn(word, vars(made[name]))
+                self.assertNotIn(word, vars(found(name)[1]))
+
     def test_defined_where_they_are_listed(self):
         for name in [*FUNCTIONS, *CLASSES]:
             file, word = name.split(".")
@@ -161,6 +184,42 @@ class Examples(unittest.TestCase):
         one, down = Program(PILE, 1, (0,), (0,)), Program(PILE, 1, (0,), (0,), (0, ("a",), "b", 0))
         self.assertEqual(
             [trap(UPDOWN), unclear_log(UPDOWN, one), unclear_log(UPDOWN, down)], [None, ("a",), None])
+
+    def test_books_and_programs(self):
+        self.assertEqual(
+            [PILE.net(("a", "a", "b", "b", "b", "a")), PILE.folds(("a", "b", "a", "b")), PILE.result("b", "a")],
+            [("b", "a"), (0, 2), None])
+        self.assertEqual(clash_of(("a", "b"), ("a", "b", ()), ("b", "a", ("a",))), ("a", "b", "a"))
+        self.assertEqual(UPDOWN.steps, ((0, (), "", 1), (0, (), "a", 0), (1, ("a",), "b", 1)))
+        self.assertEqual(
+            [UPDOWN.goes(0, ("a",)), UPDOWN.follow(1, 1, 0, 2), UPDOWN.after(1, ("a", "a"), 2)],
+            [(0, 1), (1, ("a",)), (1, ("a",))])
+
+    def test_settled(self):
+        last = (("off", "off", ("off",)), ("off", "on", ("on",)), ("on", "off", ("off",)), ("on", "on", ("on",)))
+        lamp = Book(("mark", "off", "on"), *last)
+        switch = Program(lamp, 1, (0,), (0,), (0, (), "mark", 0), (0, (), "off", 0), (0, (), "on", 0))
+        forwarder = Forwarder(switch)
+        self.assertEqual(
+            [forwarder.go(2), forwarder.go(0), forwarder.go(1), forwarder.sent, forwarder.kept, held(switch), held(UPDOWN)],
+            [(), ("on", "mark"), (), ("on", "mark"), ("off",), 1, None])
+
+    def test_meanings(self):
+        self.assertEqual(
+            [Meaning(PILE, 2, (1, 0), (1, 0)).fits, Meaning(PILE, 2, (1, None), (None, 0)).misfit(),
+             rules_that_fit(2, t=(1, 0))],
+            [True, ("a", "b", 1), (("t", "t", ()),)])
+
+    def test_console(self):
+        console = Console()
+        self.assertEqual(
+            [console.say("book entries a b / a b"),
+             console.say("program p places 2 / starts 0 / ends 1 / 0 * - 1 / 0 * a 0 / 1 a b 1")],
+            ["ok", "ok"])
+        self.assertEqual(
+            [console.say("stands p 1 a a"), console.say("run p 1 a a"), console.say("most p"), console.say("left p 3"),
+             console.say("held p")],
+            ["yes 3", "1 1 0", "endless", "- / a / a a", "endless"])
 
 
 if __name__ == "__main__":
