@@ -137,15 +137,11 @@ class Search:
             k = k - 1
         rest = way[3]
         while rest != () and k > 0:
-            last = self._log[k - 1]
-            result = self._book.result(last, rest[0])
+            result = self._book.result(self._log[k - 1], rest[0])
             if result is None:
                 break
-            if result == (last,):
-                rest = ()
-            else:
-                k = k - 1
-                rest = result
+            k = k - 1
+            rest = result
         return k, rest[0] if rest else "", way[4]
 
     def ways(self):

@@ -56,7 +56,7 @@ def greatest_open(program):
 
 
 class Layers:
-    """The least log, and its least place, with so many open entries at least; there is one.
+    """The least state with so many open entries at least; there is one. Any number below 0 is like 0.
 
     A layer has for each node the tops upon it to which one comes by opening just so many entries above it. Layer 0 is
     that of the states themselves.

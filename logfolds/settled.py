@@ -1,6 +1,5 @@
 """Settled entries: those that stay whatever comes; and forwarders, which send them on and hold back the others."""
 
-from logfolds.chains import chains_of
 from logfolds.errors import NothingThere
 from logfolds.opens import Layers, greatest_open
 from logfolds.tops import tops_of
@@ -26,8 +25,6 @@ def holding(program, many):
     """The least state that stands and has at least so many open entries, as (place, log), or None."""
     if program.starts == ():
         return None
-    if many <= 0:
-        return chains_of(program).below[0], ()
     greatest = greatest_open(program)
     if greatest is not None and many > greatest:
         return None

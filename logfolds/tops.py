@@ -37,7 +37,6 @@ class Moves:
         # For each top, what it comes to at once: on the spot, and down. Those that fold with the last entry do so.
         self._near = []
         self._exits = []
-        self._folding = 0
         for x in shifts:
             result = program.book.result(last, x)
             for place in range(program.places):
@@ -45,7 +44,7 @@ class Moves:
         reached = [self._reached(top) for top in range(self._many)]
         self._down = [gathered(self._exits, mask) for mask in reached]
         self._up = turned_about(self._down, self._many)
-        self._back = turned_about([mask & ~self._folding for mask in reached], self._many)
+        self._back = turned_about(reached, self._many)
 
     def _put(self, x, place, result, shifts, turns):
         """Tells what the next top comes to at once; there may be a rule with this result for it."""
@@ -55,12 +54,10 @@ class Moves:
             below = turns.get((self._last, place), 0)
         elif result is None:
             near = turns.get((x, place), 0)
+        elif result == (self._last,):
+            near = 1 << shifts[""] + place
         else:
-            self._folding = self._folding | 1 << shifts[x] + place
-            if result == (self._last,):
-                near = 1 << shifts[""] + place
-            else:
-                below = 1 << shifts[result[0] if result else ""] + place
+            below = 1 << shifts[result[0] if result else ""] + place
         self._near.append(near)
         self._exits.append(below)
 
@@ -83,7 +80,7 @@ class Moves:
         return gathered(self._up, mask)
 
     def back(self, mask):
-        """The tops from which one comes on the spot to some of these, which do not fold with the last entry."""
+        """The tops from which one comes on the spot to some of these, with these."""
         return gathered(self._back, mask)
 
 
@@ -94,7 +91,6 @@ class Tops:
         self.shifts = shifts_of(program)
         turns = turns_of(program, self.shifts)
         self.moves = {last: Moves(program, last, self.shifts, turns) for last in self.shifts}
-        self._places = program.places
 
     def resting(self, places):
         """The set of the tops with "" and one of these places."""

@@ -15,6 +15,18 @@ TURNS = Book(("a", "b", "c", "d"), ("a", "b", ()), ("b", "a", ()), ("c", "d", ()
 ONCE = Book(("a", "b"), ("a", "a", ("a",)), ("b", "b", ("b",)))
 SHORT = Book(("a",), ("a", "a", ()))
 BOOKS = (PILE, LAMP, FREE, TURNS, ONCE, SHORT)
+# Two colours of marks, abc and def: marks of one colour count, and four are as good as none.
+FOURS = (
+    ("a", "a", ("b",)), ("a", "b", ("c",)), ("a", "c", ()), ("b", "a", ("c",)), ("b", "b", ()), ("b", "c", ("a",)),
+    ("c", "a", ()), ("c", "b", ("a",)), ("c", "c", ("b",)))
+MARKS = Book(
+    ("a", "b", "c", "d", "e", "f"), *FOURS,
+    *[tuple(["def"["abc".index(x)], "def"["abc".index(y)], tuple("def"["abc".index(z)] for z in r)])
+      for x, y, r in FOURS])
+# One fold brings the next one about, deeper down: a, b, c with f behind them are nothing.
+CHAINED = Book(("a", "b", "c", "d", "e", "f"), ("a", "e", ()), ("b", "d", ("e",)), ("c", "f", ("d",)))
+# An entry b or c goes down through all entries a, and is b and c in turn.
+ROUND = Book(("a", "b", "c"), ("a", "b", ("c",)), ("a", "c", ("b",)), ("b", "b", ("b",)), ("c", "b", ("c",)))
 
 UPDOWN = Program(PILE, 2, (0,), (1,), (0, (), "a", 0), (0, (), "", 1), (1, ("a",), "b", 1))
 

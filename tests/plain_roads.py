@@ -1,9 +1,8 @@
 """Roads written by hand for any run, a plain check of roads by the words of point 12, and programs with long runs."""
 
-from logfolds.books import Book
 from logfolds.programs import Program
 
-from tests.helpers import plain_after, results_of
+from tests.helpers import MARKS, plain_after, results_of
 from tests.plain_ways import all_forms, put_upon
 
 
@@ -152,15 +151,6 @@ def fewest_steps(program, many):
         level = [state for state in later if state not in found]
         found.update({state: steps for state in level})
     return found
-
-
-FOURS = (
-    ("a", "a", ("b",)), ("a", "b", ("c",)), ("a", "c", ()), ("b", "a", ("c",)), ("b", "b", ()), ("b", "c", ("a",)),
-    ("c", "a", ()), ("c", "b", ("a",)), ("c", "c", ("b",)))
-MARKS = Book(
-    ("a", "b", "c", "d", "e", "f"), *FOURS,
-    *[tuple(["def"["abc".index(x)], "def"["abc".index(y)], tuple("def"["abc".index(z)] for z in r)])
-      for x, y, r in FOURS])
 
 
 def calling(counts):

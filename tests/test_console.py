@@ -316,7 +316,7 @@ class BesideAnotherConsole(unittest.TestCase):
         draw = random.Random(2101)
         words = {}
         for number in range(40):
-            book = BOOKS[number % len(BOOKS)] if number % 2 else drawn_book(draw)
+            book = BOOKS[number // 2 % len(BOOKS)] if number % 2 else drawn_book(draw)
             one, other = Console(), PlainConsole()
             for at in range(80):
                 line = book_line(book) if at == 3 or draw.randrange(60) == 0 else drawn_command(draw, book)

@@ -10,7 +10,8 @@ from logfolds.logsets import LogSet
 from logfolds.programs import Program
 from logfolds.standing import left, standing
 
-from tests.helpers import FREE, LAMP, ONCE, PILE, SHORT, TURNS, UPDOWN, drawn_book, drawn_program, plain_after
+from tests.helpers import CHAINED, FREE, LAMP, MARKS, ONCE, PILE, ROUND, SHORT, TURNS, UPDOWN, drawn_book, drawn_program
+from tests.helpers import plain_after
 from tests.plain_ends import drawn_goal, drawn_states, is_ended, plain_fewest
 from tests.plain_roads import calling, forced_run, plain_end_of
 from tests.plain_sets import SIX, first_logs, flaws_of, logs_up_to, ring, short_nets
@@ -57,6 +58,37 @@ class Known(unittest.TestCase):
         self.assertIs(can_end(program, 0, ("z",) + ("a",) * 199, LogSet.of(book, ("z",))), False)
         self.assertIs(can_end(program, 0, ("z",) + ("a",) * 199, LogSet.of(book, ("z", "z"))), True)
 
+    def test_one_fold_brings_the_next_one_about(self):
+        program = Program(CHAINED, 1, (0,), (0,), (0, (), "f", 0))
+        for log, net in ((("a", "b", "c"), ()), (("b", "c"), ("e",)), (("c",), ("d",)), (("a", "a", "b", "c"), ("a",)),
+                         (("b", "a", "b", "c"), ("b",)), (("a", "b"), ("a", "b", "f"))):
+            goal = LogSet.of(CHAINED, net)
+            self.assertEqual(fewest(program, 0, log, goal), 1)
+            self.assertEqual(ending_run(program, 0, log, goal), (0,))
+            self.assertTrue(log in endings(program, 0, goal))
+        self.assertEqual(fewest(program, 0, ("a", "b", "c") * 2, LogSet.of(CHAINED, ())), 2)
+        program = Program(ROUND, 2, (0,), (1,), (0, (), "b", 1))
+        for many in range(1, 6):
+            goal = LogSet.of(ROUND, ("b" if many % 2 == 0 else "c",))
+            self.assertEqual(fewest(program, 0, ("a",) * many, goal), 1)
+            self.assertIsNone(fewest(program, 0, ("a",) * (many + 1), goal))
+
+    def test_an_entry_turned_several_times_before_it_is_gone(self):
+        # Each mark counts down from three, one step at a time, before the one beneath it has its turn.
+        down = [(0, ("c",), "c", 1), (1, ("b",), "c", 2), (2, ("a",), "c", 3)]
+        again = [(3, ("f",), "f", 4), (4, ("e",), "f", 5), (5, ("d",), "f", 6), (6, ("c",), "", 0)]
+        program = Program(MARKS, 7, (0,), (6,), *down, *again)
+        goal = LogSet.of(MARKS, ())
+        for log, many in ((("f", "c"), 6), (("f", "c") * 2, 13), (("f", "c") * 50, 349), (("c",), None), (("f",), None),
+                          (("b", "f", "c"), None), (("f", "b"), None), (("d", "c"), None)):
+            self.assertEqual(fewest(program, 0, log, goal), many)
+            self.assertIs(can_end(program, 0, log, goal), many is not None)
+            self.assertIs(log in endings(program, 0, goal), many is not None)
+            if many is not None:
+                self.assertEqual(len(ending_run(program, 0, log, goal)), many)
+        self.assertEqual(endings(program, 3, goal).least(), ("f",))
+        self.assertEqual([fewest(program, 0, ("b", "f", "c")), fewest(program, 0, ("e", "c"))], [6, None])
+
     def test_counters_taken_back_in_rounds(self):
         # Three are taken in each round, with a look before each; only from multiples of three one comes to an end.
         steps = [(0, ("a",), "b", 1), (1, ("a",), "b", 2), (2, ("a",), "b", 0), (0, ("",), "", 3)]
@@ -70,14 +102,43 @@ class Known(unittest.TestCase):
         self.assertRaises(NoRoad, ending_run, program, 0, ("a",) * 200)
 
 
+    def test_what_is_found_first_is_not_always_the_shortest(self):
+        # z takes a away, behind nine steps; or y makes it b, and z takes that away at once.
+        book = Book(("a", "b", "y", "z"), ("a", "y", ("b",)), ("a", "z", ()), ("b", "z", ()))
+        slow = [(place, ("a",), "", place + 1) for place in range(9)] + [(9, ("a",), "z", 11)]
+        soon = [(0, ("a",), "y", 10), (10, ("b",), "z", 11)]
+        goal = LogSet.of(book, ())
+        for steps, many in ((slow, 10), (slow + soon, 2)):
+            program = Program(book, 12, (0,), (11,), *steps)
+            self.assertEqual(fewest(program, 0, ("a",), goal), many)
+            self.assertEqual(len(ending_run(program, 0, ("a",), goal)), many)
+            self.assertEqual(fewest(program, 0, ("z", "a"), LogSet.of(book, ("z",))), many)
+        # And what is found last is not told instead of what was found before.
+        steps = [(0, ("a",), "", 1), (1, ("a",), "", 2), (2, ("a",), "z", 11), (0, ("a",), "y", 3),
+                 *[(place, ("b",), "", place + 1) for place in range(3, 10)], (10, ("b",), "z", 11)]
+        program = Program(book, 12, (0,), (11,), *steps)
+        self.assertEqual(fewest(program, 0, ("a",), goal), 3)
+        self.assertEqual(len(ending_run(program, 0, ("a",), goal)), 3)
+
+    def test_a_way_that_begins_sooner_is_not_always_the_shortest(self):
+        # With a still there, three steps lead to an end; once it is gone, which takes one step, ten do.
+        ahead = [(0, (), "", 1), (1, ("a",), "", 2), (2, ("a",), "", 11)]
+        down = [(0, ("a",), "b", 3), *[(place, ("",), "", place + 1) for place in range(3, 11)]]
+        program = Program(PILE, 12, (0,), (11,), *ahead, *down)
+        self.assertEqual([fewest(program, 0, ("a",)), fewest(program, 0, ("a",), NOTHING)], [3, 9])
+        self.assertEqual(ending_run(program, 0, ("a",)), tuple(program.steps.index(step) for step in ahead))
+        only = Program(PILE, 12, (0,), (11,), *ahead[:2], *down)
+        self.assertEqual(fewest(only, 0, ("a",)), 9)
+
+
 class BesidePlainWalks(unittest.TestCase):
 
     def programs(self, seed, many):
         """Drawn programs with goals."""
         draw = random.Random(seed)
-        books = (PILE, LAMP, ONCE, SHORT, TURNS, FREE)
+        books = (PILE, LAMP, ONCE, SHORT, TURNS, FREE, ROUND, CHAINED, MARKS)
         for number in range(many):
-            book = books[number % 6] if number % 2 else drawn_book(draw)
+            book = books[number % 9] if number % 2 else drawn_book(draw)
             yield draw, drawn_program(draw, book), drawn_goal(draw, book)
 
     def test_few_steps(self):

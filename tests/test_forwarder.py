@@ -8,7 +8,7 @@ from logfolds.errors import NoStep, NothingThere
 from logfolds.programs import Program
 from logfolds.settled import Forwarder, settled
 
-from tests.helpers import FREE, LAMP, PILE, UPDOWN, drawn_book, drawn_program, odd_values, plain_after
+from tests.helpers import FREE, LAMP, PILE, ROUND, UPDOWN, drawn_book, drawn_program, odd_values, plain_after
 from tests.plain_sets import SIX
 from tests.test_settled import SWITCH
 from tests.test_ways import great_program
@@ -55,7 +55,7 @@ class AlongRuns(unittest.TestCase):
         """Drawn programs, with a draw to go on from."""
         draw = random.Random(seed)
         for number in range(many):
-            book = (PILE, LAMP, SIX, FREE)[number % 4] if number % 2 else drawn_book(draw)
+            book = (PILE, LAMP, SIX, ROUND)[number // 2 % 4] if number % 2 else drawn_book(draw)
             yield draw, drawn_program(draw, book, 4, 10)
 
     def test_sent_and_kept(self):

@@ -10,7 +10,7 @@ from logfolds.programs import Program
 from logfolds.roads import length_of, road, road_holds, run_of
 from logfolds.standing import left, standing, stands
 
-from tests.helpers import LAMP, ONCE, PILE, SHORT, TURNS, drawn_program
+from tests.helpers import LAMP, ONCE, PILE, ROUND, SHORT, TURNS, drawn_program
 from tests.plain_ends import drawn_goal, drawn_states, is_ended
 from tests.plain_roads import plain_end_of
 from tests.plain_sets import first_logs
@@ -22,7 +22,7 @@ def drawn_pairs(seed, many):
     """Drawn pairs of programs with one book, and goals."""
     draw = random.Random(seed)
     for number in range(many):
-        book = (PILE, LAMP, TURNS, ONCE, SHORT)[number % 5]
+        book = (PILE, LAMP, TURNS, ONCE, SHORT, ROUND)[number % 6]
         yield draw, drawn_program(draw, book, 3, 6), drawn_program(draw, book, 3, 6), drawn_goal(draw, book)
 
 

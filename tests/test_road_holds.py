@@ -3,6 +3,7 @@
 import random
 import unittest
 
+from logfolds.books import Book
 from logfolds.programs import Program
 from logfolds.roads import length_of, road, road_holds
 from logfolds.standing import standing, stands
@@ -173,6 +174,19 @@ class OneThingPutOtherwise(unittest.TestCase):
         self.assertIs(road_holds(other, 0, (), (lines, (0,))), False)
         nowhere = Program(PILE, 2, (), (1,), *UPDOWN.steps)
         self.assertIs(road_holds(nowhere, 0, (), (lines, (0,))), False)
+
+    def test_one_above_another(self):
+        # With b above a, b is not just one entry above the ground.
+        book = Book(("a", "b"))
+        program = Program(book, 1, (0,), (0,), (0, (), "a", 0), (0, (), "b", 0))
+        lines = (
+            (("stays", "", 0, 0), ("none",)), (("stays", "a", 0, 0), ("none",)), (("above", "", 0, "a", 0), ("step", 0, 0)),
+            (("above", "a", 0, "b", 0), ("step", 1, 1)), (("above", "", 0, "b", 0), ("step", 0, 1)))
+        self.assertIs(road_holds(program, 0, ("b",), (lines, (4,))), True)
+        self.assertIs(road_holds(program, 0, ("a", "b"), (lines, (2, 3))), True)
+        wrong = (*lines[:4], (("above", "", 0, "b", 0), ("ways", 2, 3)))
+        for log, numbers in ((("b",), (4,)), (("a", "b"), (2, 3))):
+            self.assertIs(road_holds(program, 0, log, (wrong, numbers)), False)
 
     def test_any_values(self):
         for thing in odd_values():

@@ -74,6 +74,20 @@ class Shortest(unittest.TestCase):
         self.assertEqual(run_of(road(program, 2, ())), ())
         self.assertEqual(length_of(road(program, 1, ())), 1)
 
+    def test_what_is_offered_first_is_not_always_the_shortest(self):
+        # Eight steps lead straight on; four steps, a mark, five steps and its counterpart lead there, too.
+        straight = [(place, (), "", place + 1) for place in range(8)]
+        around = [(0, (), "", 9), (9, (), "", 10), (10, (), "", 11), (11, (), "", 12), (12, (), "a", 13)]
+        back = [(place, (), "", place + 1) for place in range(13, 18)]
+        program = Program(PILE, 19, (0,), (8,), *straight, *around, *back, (18, (), "b", 8))
+        self.assertEqual(length_of(road(program, 8, ())), 8)
+        shorter = Program(PILE, 19, (0,), (8,), *straight[:-1], *around, *back, (18, (), "b", 8))
+        self.assertEqual(length_of(road(shorter, 8, ())), 11)
+        for place in range(19):
+            for log in ((), ("a",)):
+                if stands(program, place, log):
+                    self.assertEqual(self.check_road(program, place, log), fewest_steps(program, 19)[(place, log)])
+
     def test_folds_over_several_entries(self):
         # b behind a is c, and c behind c is nothing: two entries b make up for two entries a.
         book = Book(("a", "b", "c"), ("a", "b", ("c",)), ("c", "b", ()))

@@ -9,7 +9,8 @@ from logfolds.programs import Program
 from logfolds.settled import held, holding, settled
 from logfolds.standing import stands
 
-from tests.helpers import FREE, LAMP, ONCE, PILE, SHORT, TURNS, UPDOWN, drawn_book, drawn_program, plain_after
+from tests.helpers import CHAINED, FREE, LAMP, MARKS, ONCE, PILE, ROUND, SHORT, TURNS, UPDOWN, drawn_book, drawn_program
+from tests.helpers import plain_after
 from tests.plain_ends import drawn_states
 from tests.plain_roads import calling
 from tests.plain_sets import SIX, short_nets
@@ -45,7 +46,7 @@ class Settled(unittest.TestCase):
         draw = random.Random(1701)
         kinds = [0, 0]
         for number in range(200):
-            book = (PILE, LAMP, TURNS, ONCE, SHORT, FREE)[number % 6] if number % 2 else drawn_book(draw)
+            book = (PILE, LAMP, TURNS, ONCE, SHORT, ROUND, CHAINED, MARKS, FREE)[number % 9] if number % 2 else drawn_book(draw)
             program = drawn_program(draw, book)
             for place, log in drawn_states(draw, program, 12, 3):
                 told = settled(program, place, log)
@@ -108,6 +109,19 @@ class Settled(unittest.TestCase):
         program = Program(book, 2, (0,), (1,), (0, ("b",), "z", 1))
         self.assertEqual([settled(program, 0, log) for log in (("b",), ("a", "b"), ("a", "a"))], [1, 2, 2])
 
+    def test_an_entry_turned_several_times_before_it_is_gone(self):
+        down = [(0, ("c",), "c", 1), (1, ("b",), "c", 2), (2, ("a",), "c", 3)]
+        again = [(3, ("f",), "f", 4), (4, ("e",), "f", 5), (5, ("d",), "f", 6), (6, ("c",), "", 0)]
+        program = Program(MARKS, 7, (0,), (6,), *down, *again)
+        for log, many in ((("f", "c"), 0), (("b", "f", "c"), 1), (("e", "c"), 1), (("e", "b", "f", "c"), 2),
+                          (("c", "f", "c"), 0), (("f", "b"), 2), (("c", "f"), 2), (("d", "c", "f", "c"), 1)):
+            self.assertEqual(settled(program, 0, log), many)
+        self.assertEqual(settled(program, 3, ("c", "f")), 0)
+        # A place that can write any mark, and then goes down so.
+        both = Program(MARKS, 7, (0,), (6,), (0, (), "c", 0), (0, (), "f", 0), *program.steps)
+        self.assertIsNone(held(both))
+        self.assertEqual(holding(both, 2), (0, ("a", "d")))
+
     def test_steps_that_come_only_after_others(self):
         # From place 0 a has to be gone before b can go; from place 1 nothing more can.
         book = Book(("a", "b", "c", "d"), ("a", "c", ()), ("b", "d", ()))
@@ -169,7 +183,7 @@ class Held(unittest.TestCase):
     def test_beside_all_short_logs(self):
         draw = random.Random(1712)
         for number in range(250):
-            book = (PILE, LAMP, TURNS, ONCE, SHORT)[number % 5] if number % 2 else drawn_book(draw)
+            book = (PILE, LAMP, MARKS, ONCE, ROUND, CHAINED)[number // 2 % 6] if number % 2 else drawn_book(draw)
             program = drawn_program(draw, book)
             if not program.starts:
                 continue

@@ -7,7 +7,8 @@ from logfolds.books import Book
 from logfolds.programs import Program
 from logfolds.ways import is_way, ways_of
 
-from tests.helpers import BOOKS, FREE, LAMP, PILE, UPDOWN, drawn_book, drawn_program, drawn_step, odd_values
+from tests.helpers import BOOKS, CHAINED, FREE, LAMP, PILE, ROUND, UPDOWN, drawn_book, drawn_program, drawn_step
+from tests.helpers import odd_values
 from tests.plain_sets import SIX
 from tests.plain_ways import all_forms, plain_closure, short_run_ways
 
@@ -18,7 +19,7 @@ def drawn_programs(seed, many, places=4, steps=8):
     """Drawn programs with all kinds of books."""
     draw = random.Random(seed)
     for number in range(many):
-        book = (BOOKS + (TURNED,))[number % 7] if number % 2 else drawn_book(draw)
+        book = (BOOKS + (TURNED, ROUND, CHAINED))[number % 9] if number % 2 else drawn_book(draw)
         yield drawn_program(draw, book, places, steps)
 
 
