@@ -2,7 +2,7 @@
 
 from logfolds.machines import merged_rows
 from logfolds.met import Met
-from logfolds.ways import ways_of
+from logfolds.ways import is_let, ways_of
 
 
 class Chains:
@@ -41,13 +41,26 @@ class Chains:
         # A closed set need not have a way upon the ground from each place of below, so chains begin at the starts.
         return self.places_behind("", self._starts, log) if log else self.below
 
-    def kinds(self):
+    def _likes(self, steps):
+        """For each last entry, and "", the first one with which the same can stand above and the same steps go."""
+        rows = {last: [] for last in ("", *self._entries)}
+        for (last, place, entry), places in self._above.items():
+            rows[last].append((place, entry, tuple(places)))
+        firsts = {}
+        found = {}
+        for last in rows:
+            key = (tuple(sorted(rows[last])), tuple([is_let(step, last) for step in steps]))
+            found[last] = firsts.setdefault(key, last)
+        return found
+
+    def kinds(self, steps):
         """All kinds of logs that stand, as a list of (last, places, moves); the moves are pairs (entry, kind).
 
         The first one is that of (); it is there even if it stands nowhere. They are told in the order of their
-        least logs.
+        least logs. Of last entries that are alike for all these steps the first one stands for the others, too.
         """
-        kinds = Met(("", self.below))
+        likes = self._likes(steps)
+        kinds = Met((likes[""], self.below))
         found = []
         while len(found) < len(kinds.things):
             last, places = kinds.things[len(found)]
@@ -55,7 +68,7 @@ class Chains:
             for entry in self._entries:
                 above = self.places_above(last, places, entry)
                 if above != ():
-                    moves.append((entry, kinds.number_of((entry, above))))
+                    moves.append((entry, kinds.number_of((likes[entry], above))))
             found.append((last, places, tuple(moves)))
         return found
 
@@ -87,7 +100,7 @@ def kinds_of(program):
     """All kinds of logs that stand, as Chains.kinds tells them."""
     known = program.worked_out
     if "kinds" not in known:
-        known["kinds"] = chains_of(program).kinds()
+        known["kinds"] = chains_of(program).kinds(program.steps)
     return known["kinds"]
 
 

@@ -25,6 +25,8 @@ MARKS = Book(
       for x, y, r in FOURS])
 # One fold brings the next one about, deeper down: a, b, c with f behind them are nothing.
 CHAINED = Book(("a", "b", "c", "d", "e", "f"), ("a", "e", ()), ("b", "d", ("e",)), ("c", "f", ("d",)))
+# x with z behind it is b, which c beneath swallows; only y takes c away.
+SWALLOWED = Book(("b", "c", "x", "y", "z"), ("c", "b", ("c",)), ("c", "y", ()), ("x", "z", ("b",)))
 # An entry b or c goes down through all entries a, and is b and c in turn.
 ROUND = Book(("a", "b", "c"), ("a", "b", ("c",)), ("a", "c", ("b",)), ("b", "b", ("b",)), ("c", "b", ("c",)))
 

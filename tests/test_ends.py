@@ -10,8 +10,8 @@ from logfolds.logsets import LogSet
 from logfolds.programs import Program
 from logfolds.standing import left, standing
 
-from tests.helpers import CHAINED, FREE, LAMP, MARKS, ONCE, PILE, ROUND, SHORT, TURNS, UPDOWN, drawn_book, drawn_program
-from tests.helpers import plain_after
+from tests.helpers import CHAINED, FREE, LAMP, MARKS, ONCE, PILE, ROUND, SHORT, SWALLOWED, TURNS, UPDOWN, drawn_book
+from tests.helpers import drawn_program, plain_after
 from tests.plain_ends import drawn_goal, drawn_states, is_ended, plain_fewest
 from tests.plain_roads import calling, forced_run, plain_end_of
 from tests.plain_sets import SIX, first_logs, flaws_of, logs_up_to, ring, short_nets
@@ -88,6 +88,16 @@ class Known(unittest.TestCase):
                 self.assertEqual(len(ending_run(program, 0, log, goal)), many)
         self.assertEqual(endings(program, 3, goal).least(), ("f",))
         self.assertEqual([fewest(program, 0, ("b", "f", "c")), fewest(program, 0, ("e", "c"))], [6, None])
+
+    def test_what_is_beneath_is_left_unchanged_by_a_fold_and_then_gone(self):
+        program = Program(SWALLOWED, 4, (0,), (3,), (0, ("x",), "z", 2), (2, ("c",), "y", 3))
+        goal = LogSet.of(SWALLOWED, ())
+        for log, many in ((("c", "x"), 2), (("x",), None), (("b", "x"), None), (("c", "c", "x"), None)):
+            self.assertEqual([fewest(program, 0, log, goal), can_end(program, 0, log, goal)], [many, many is not None])
+            self.assertIs(log in endings(program, 0, goal), many is not None)
+        self.assertEqual(list(endings(program, 0, goal).logs()), [("c", "x")])
+        self.assertEqual(fewest(program, 0, ("c", "c", "x"), LogSet.of(SWALLOWED, ("c",))), 2)
+        self.assertEqual(endings(program, 0, LogSet.of(SWALLOWED, ("x", "c"))), LogSet.of(SWALLOWED, ("x", "c", "c", "x")))
 
     def test_counters_taken_back_in_rounds(self):
         # Three are taken in each round, with a look before each; only from multiples of three one comes to an end.

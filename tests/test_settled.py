@@ -9,8 +9,8 @@ from logfolds.programs import Program
 from logfolds.settled import held, holding, settled
 from logfolds.standing import stands
 
-from tests.helpers import CHAINED, FREE, LAMP, MARKS, ONCE, PILE, ROUND, SHORT, TURNS, UPDOWN, drawn_book, drawn_program
-from tests.helpers import plain_after
+from tests.helpers import CHAINED, FREE, LAMP, MARKS, ONCE, PILE, ROUND, SHORT, SWALLOWED, TURNS, UPDOWN, drawn_book
+from tests.helpers import drawn_program, plain_after
 from tests.plain_ends import drawn_states
 from tests.plain_roads import calling
 from tests.plain_sets import SIX, short_nets
@@ -121,6 +121,15 @@ class Settled(unittest.TestCase):
         both = Program(MARKS, 7, (0,), (6,), (0, (), "c", 0), (0, (), "f", 0), *program.steps)
         self.assertIsNone(held(both))
         self.assertEqual(holding(both, 2), (0, ("a", "d")))
+
+    def test_what_is_beneath_is_left_unchanged_by_a_fold_and_then_gone(self):
+        program = Program(SWALLOWED, 4, (0,), (3,), (0, ("x",), "z", 2), (2, ("c",), "y", 3))
+        for log, many in ((("c", "x"), 0), (("x",), 0), (("b", "x"), 1), (("c", "c", "x"), 1), (("c", "c"), 2)):
+            self.assertEqual(settled(program, 0, log), many)
+        only_swallowed = Program(SWALLOWED, 4, (0,), (3,), program.steps[0])
+        self.assertEqual([settled(only_swallowed, 0, log) for log in (("c", "x"), ("c", "c", "x"))], [1, 2])
+        written = Program(SWALLOWED, 4, (1,), (3,), (1, (), "c", 1), (1, ("c",), "x", 0), *program.steps)
+        self.assertEqual([held(written), holding(written, 2)], [2, (0, ("c", "x"))])
 
     def test_steps_that_come_only_after_others(self):
         # From place 0 a has to be gone before b can go; from place 1 nothing more can.
