@@ -4,7 +4,7 @@ from logfolds.errors import BadTable, NoLog, NotNet, OtherBook
 from logfolds.machines import IN_BOTH, IN_EITHER, IN_FIRST_ALONE, IN_JUST_ONE
 from logfolds.machines import joined, listing_table, maps_of, nets_table, table_of
 from logfolds.values import is_ascending, is_integer
-from logfolds.walks import all_rows, least_row, longest_walk, row_count
+from logfolds.walks import Counts, all_rows, least_row, longest_walk
 
 
 def is_move(thing, book, many):
@@ -33,6 +33,7 @@ class LogSet:
         self._table = table
         # Each sign and each look into the set needs them, so they are made once.
         self._maps = maps_of(table)
+        self._counts = None
 
     @classmethod
     def of(cls, book, *rows):
@@ -137,7 +138,11 @@ class LogSet:
 
     def count(self, length):
         """How many logs of this length there are."""
-        return row_count(self._table, length) if self._table else 0
+        if not self._table:
+            return 0
+        if self._counts is None:
+            self._counts = Counts(self._table)
+        return self._counts.of_length(length)
 
     def logs(self):
         """Yields all logs in their order, one by one."""

@@ -79,30 +79,54 @@ def doubling_work(jumps):
     return sum([len(jumps[middle]) + 1 for first in jumps for middle in first])
 
 
-def jumps_for(rows, length):
-    """Jumps by 1, 2, 4 .. entries, as far as they make a walk of this length less work."""
-    jumps = [single_jumps(rows)]
-    least_work = length * work_of(jumps[0])
-    wanted = 1
-    while length >> len(jumps) > 0 and doubling_work(jumps[-1]) <= least_work:
-        jumps.append(doubled_jumps(jumps[-1]))
-        work = (length >> (len(jumps) - 1)) * work_of(jumps[-1])
-        if work < least_work:
-            least_work = work
-            wanted = len(jumps)
-    return jumps[:wanted]
+class Counts:
+    """How many rows of each length a machine accepts. What was counted once is kept."""
 
+    def __init__(self, rows):
+        # Jumps by 1, 2, 4 .. entries, as far as they were made.
+        self._jumps = [single_jumps(rows)]
+        self._ends = [1 if is_in else 0 for is_in, _ in rows]
+        # How many rows of the last length that was counted lead from each state to one that accepts.
+        self._length = 0
+        self._rests = self._ends
+        self._known = {0: self._ends[0]}
 
-def row_count(rows, length):
-    """How many rows of this length a machine accepts."""
-    counts = [1 if is_in else 0 for is_in, _ in rows]
-    rest = length
-    all_jumps = jumps_for(rows, length)
-    for k in reversed(range(len(all_jumps))):
-        while rest >> k > 0:
-            counts = [sum([many * counts[to] for to, many in jumps.items()]) for jumps in all_jumps[k]]
-            rest = rest - (1 << k)
-    return counts[0]
+    def of_length(self, length):
+        """How many rows of this length there are."""
+        if length not in self._known:
+            if length < self._length:
+                self._length = 0
+                self._rests = self._ends
+            self._go_on(length - self._length)
+        return self._known[length]
+
+    def _go_on(self, rest):
+        """Counts on from the last length, by so many entries."""
+        for k in reversed(range(self._doublings_for(rest) + 1)):
+            while rest >> k > 0:
+                rests = self._rests
+                self._rests = [
+                    sum([many * rests[to] for to, many in jumps.items()]) for jumps in self._jumps[k]]
+                self._length = self._length + (1 << k)
+                self._known[self._length] = self._rests[0]
+                rest = rest - (1 << k)
+
+    def _doublings_for(self, length):
+        """How often it is best to double jumps for a walk of this length; the jumps are made."""
+        least_work = length * work_of(self._jumps[0])
+        best = 0
+        k = 1
+        while length >> k > 0:
+            if k == len(self._jumps):
+                if doubling_work(self._jumps[-1]) > least_work:
+                    break
+                self._jumps.append(doubled_jumps(self._jumps[-1]))
+            work = (length >> k) * work_of(self._jumps[k])
+            if work < least_work:
+                least_work = work
+                best = k
+            k = k + 1
+        return best
 
 
 def next_moves(rows, ables):

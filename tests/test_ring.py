@@ -107,6 +107,39 @@ class Ring(unittest.TestCase):
             self.assertTrue((a & b).within(a))
 
 
+class Counts(unittest.TestCase):
+
+    def plain_count(self, place, longest):
+        """How many logs of each length up to this one stand at a place, by the sets of places."""
+        ways, found = {frozenset((0, 2, 5, 7)): 1}, []
+        for _ in range(longest + 1):
+            found.append(sum(many for places, many in ways.items() if place in places))
+            onward = {}
+            for places, many in ways.items():
+                for entry in "xy":
+                    other = moved(places, entry)
+                    onward[other] = onward.get(other, 0) + many
+            ways = onward
+        return found
+
+    def test_lengths_in_any_order(self):
+        program = ring_program()
+        for place in (3, 8):
+            wanted = self.plain_count(place, 200)
+            logset = standing(program, place)
+            self.assertEqual([logset.count(length) for length in range(201)], wanted)
+            other = standing(program, place)
+            lengths = [*range(200, 0, -37), 7, 200, 0, 150, 8, 199, 7]
+            self.assertEqual([other.count(length) for length in lengths], [wanted[length] for length in lengths])
+
+    def test_great_lengths_after_small_ones(self):
+        rows = LogSet.machine(XY, (False, (("x", 1), ("y", 0))), (True, (("x", 0),)))
+        for lengths in ((0, 1, 2, 3, 400, 401, 5), (3000, 2, 2999, 3001)):
+            fresh = [LogSet.machine(XY, *rows.table).count(length) for length in lengths]
+            logset = LogSet.machine(XY, *rows.table)
+            self.assertEqual([logset.count(length) for length in lengths], fresh)
+
+
 class NotTwice(unittest.TestCase):
 
     def test_ways_and_kinds_are_found_once(self):
