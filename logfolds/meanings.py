@@ -21,6 +21,13 @@ def led(deed, condition):
     return None if condition is None else deed[condition]
 
 
+def led_by_row(deeds, condition, row):
+    """Where a row leads from a condition, by the deeds of its entries."""
+    for entry in row:
+        condition = led(deeds[entry], condition)
+    return condition
+
+
 def deed_of_two(first, second):
     """The deed that does one and then the other."""
     return tuple([led(second, condition) for condition in first])
@@ -43,15 +50,13 @@ class Meaning:
 
     def after(self, condition, row):
         """Where a row leads from a condition: a condition or None."""
-        for entry in row:
-            condition = led(self._deeds[entry], condition)
-        return condition
+        return led_by_row(self._deeds, condition, row)
 
     def misfit(self):
         """The least (x, y, condition) for which the two sides of the rule lead to unlike things, or None."""
         for x, y, result in self._book.rules:
             for condition in range(self._many):
-                if self.after(condition, (x, y)) != self.after(condition, result):
+                if led_by_row(self._deeds, condition, (x, y)) != led_by_row(self._deeds, condition, result):
                     return x, y, condition
         return None
 
