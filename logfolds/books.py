@@ -127,6 +127,16 @@ def book_told(text):
     return lines, entries, rules_told(lines[1:], known_of(entries))
 
 
+def parts_read(text):
+    """The entries and rules that the text of a book tells."""
+    lines, entries, rules = book_told(text)
+    if len(rules) + 1 < len(lines):
+        raise InvalidText(len(rules) + 1)
+    if clash_of(entries, *rules) is not None:
+        raise InvalidText(len(lines))
+    return entries, rules
+
+
 def followers_of(entries, results):
     """For each entry, and for the ground "", what can stand right behind it in a net, ascending."""
     found = {x: [y for y in entries if (x, y) not in results] for x in entries}
@@ -173,11 +183,7 @@ class Book:
     @classmethod
     def read(cls, text):
         """The book with this text."""
-        lines, entries, rules = book_told(text)
-        if len(rules) + 1 < len(lines):
-            raise InvalidText(len(rules) + 1)
-        if clash_of(entries, *rules) is not None:
-            raise InvalidText(len(lines))
+        entries, rules = parts_read(text)
         return cls(entries, *rules)
 
     @property

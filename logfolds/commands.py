@@ -1,6 +1,6 @@
 """Commands: the words of a line, and whether they are a command for some book or for the one that is there."""
 
-from logfolds.books import Book, is_name, known_of
+from logfolds.books import Book, is_name, known_of, parts_read
 from logfolds.errors import InvalidText
 from logfolds.programs import head_told
 from logfolds.steps import number_told, steps_told
@@ -71,7 +71,8 @@ def names_in(lines):
     for line in lines:
         words = line.split(" ")
         if len(words) == 4:
-            found.extend([*words[1].split(","), words[2]])
+            found.extend(words[1].split(","))
+            found.append(words[2])
     return [word for word in found if is_name(word)]
 
 
@@ -97,7 +98,8 @@ def text_of(words):
 def parts_told(words, book):
     """What the words of a command tell behind the first one, or None; or InvalidText is raised."""
     if words[0] == "book":
-        return (Book.read(text_of(words[1:])),)
+        entries, rules = parts_read(text_of(words[1:]))
+        return (Book(entries, *rules),)
     if words[0] == "program":
         return program_told(words, book)
     return form_told(words, book)
