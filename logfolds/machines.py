@@ -130,8 +130,12 @@ def classes_of(rows, entries):
     classes = [1 if row[0] else 0 for row in rows]
     members = {number: [state for state, own in enumerate(classes) if own == number] for number in range(2)}
     waiting = [(number, entry) for number in range(2) for entry in entries]
-    while waiting:
-        number, entry = waiting.pop()
+    used = 0
+    # Often each state comes to have a class of its own, and then no more can be split.
+    most = len(rows) + len([number for number in range(2) if members[number] == []])
+    while used < len(waiting) and len(members) < most:
+        number, entry = waiting[used]
+        used = used + 1
         hits = {}
         for to in members[number]:
             for state in sources.get((entry, to), ()):
