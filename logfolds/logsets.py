@@ -29,7 +29,8 @@ class LogSet:
     """A set of nets of a book. It is made by the class methods, and by the operators."""
 
     def __init__(self, book, table):
-        self._book = book
+        # An attribute, as in programs: were it a property, its setter would stand behind each sign of a program (L28).
+        self.book = book
         self._table = table
         # Each sign and each look into the set needs them, so they are made once.
         self._maps = maps_of(table)
@@ -63,22 +64,12 @@ class LogSet:
         return cls(book, table_of(joined(entries, IN_BOTH, maps_of(rows), maps_of(nets_table(book))), entries))
 
     @property
-    def book(self):
-        """The book."""
-        return self._book
-
-    @book.setter
-    def book(self, value):
-        # Programs have an attribute of this name, and a name that is assigned needs a setter in each class (L5).
-        self._book = value
-
-    @property
     def table(self):
         """The table."""
         return self._table
 
     def __eq__(self, other):
-        return isinstance(other, LogSet) and self._book == other._book and self._table == other._table
+        return isinstance(other, LogSet) and self.book == other.book and self._table == other._table
 
     def __bool__(self):
         return bool(self._table)
@@ -90,34 +81,34 @@ class LogSet:
         state = 0
         for entry in x:
             # A list or a dict cannot be looked up, so it is asked first whether this is an entry.
-            state = self._maps[state][1].get(entry) if self._book.is_entry(entry) else None
+            state = self._maps[state][1].get(entry) if self.book.is_entry(entry) else None
             if state is None:
                 return False
         return self._table[state][0]
 
     def _joint_rows(self, other, kind, until_one=False):
         """The rows of a machine for the wanted kind of logs of both, or those up to the first that accepts."""
-        if self._book != other._book:
+        if self.book != other.book:
             raise OtherBook()
-        return joined(self._book.entries, kind, self._maps, other._maps, until_one)
+        return joined(self.book.entries, kind, self._maps, other._maps, until_one)
 
     def __and__(self, other):
         """The logs of both."""
-        return LogSet(self._book, table_of(self._joint_rows(other, IN_BOTH), self._book.entries))
+        return LogSet(self.book, table_of(self._joint_rows(other, IN_BOTH), self.book.entries))
 
     def __or__(self, other):
         """The logs of this set or the other one."""
-        return LogSet(self._book, table_of(self._joint_rows(other, IN_EITHER), self._book.entries))
+        return LogSet(self.book, table_of(self._joint_rows(other, IN_EITHER), self.book.entries))
 
     def __sub__(self, other):
         """The logs of this set that are not in the other one."""
-        return LogSet(self._book, table_of(self._joint_rows(other, IN_FIRST_ALONE), self._book.entries))
+        return LogSet(self.book, table_of(self._joint_rows(other, IN_FIRST_ALONE), self.book.entries))
 
     def __invert__(self):
         """The other nets of the book."""
-        entries = self._book.entries
-        nets = maps_of(nets_table(self._book))
-        return LogSet(self._book, table_of(joined(entries, IN_FIRST_ALONE, nets, self._maps), entries))
+        entries = self.book.entries
+        nets = maps_of(nets_table(self.book))
+        return LogSet(self.book, table_of(joined(entries, IN_FIRST_ALONE, nets, self._maps), entries))
 
     def within(self, b):
         """Whether each log of this set is in the other one."""

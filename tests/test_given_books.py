@@ -1,5 +1,6 @@
-"""The book that was given: an attribute of a program, a property of a set of logs, for each way to make them."""
+"""The book that was given: an attribute of a program and of a set of logs, for each way to make them."""
 
+import copy
 import random
 import unittest
 
@@ -21,30 +22,80 @@ class GivenBooks(unittest.TestCase):
         for number in range(30):
             yield draw, drawn_program(draw, BOOKS[number % len(BOOKS)])
 
+    def check_book(self, made, book):
+        """Checks that a program or a set of logs has this very book, as an attribute of its own."""
+        self.assertIs(made.book, book)
+        self.assertIs(vars(made)["book"], book)
+        self.assertNotIn("book", vars(made.__class__))
+
     def test_programs(self):
         for draw, program in self.drawn(1001):
             book = program.book
             other = drawn_program(draw, book)
-            self.assertIs(drawn_program(draw, book).book, book)
-            self.assertIn("book", vars(program))
-            for made in (Program.of(book, 1, (), (), ()), program + other, program | other, program.again()):
-                self.assertIs(made.book, book)
-            self.assertIs((Program(book, 1, (0,), ()) & program).book, book)
+            parts = (book, 2, (0,), (1,))
+            for made in (
+                    Program(*parts), Program(*parts, (0, (), "", 1)), Program.of(*parts, ((0, (), "", 1),)),
+                    program + other, program | other, program & other, program.again(),
+                    (program + other).again(), program.again() | other):
+                self.check_book(made, book)
+
+    def test_programs_that_are_read(self):
+        for _, program in self.drawn(1003):
             read = Program.read(program.text)
-            self.assertEqual(read.book, book)
+            self.assertEqual(read.book, program.book)
             self.assertIsInstance(read.book, Book)
+            self.check_book(read.again(), read.book)
 
     def test_sets_of_logs(self):
         for draw, program in self.drawn(1002):
             book = program.book
             some = LogSet.of(book, (), plain_net(book, drawn_row(draw, book, 3)))
             other = LogSet.machine(book, *drawn_machine(draw, book, 3))
-            made = [
-                some, other, LogSet.every(book), LogSet.none(book), some & other, some | other, some - other, ~some,
-                standing(program, 0), left(program), endings(program, 0), endings(program, 0, some)]
-            for logset in made:
-                self.assertIs(logset.book, book)
-                self.assertIsInstance(vars(LogSet)["book"], property)
+            sets = [some, other, LogSet.of(book), LogSet.machine(book), LogSet.every(book), LogSet.none(book)]
+            for one in sets:
+                for made in (one, one & some, one | other, one - some, ~one):
+                    self.check_book(made, book)
+
+    def test_sets_of_the_logs_of_programs(self):
+        for draw, program in self.drawn(1004):
+            book = program.book
+            goal = LogSet.machine(book, *drawn_machine(draw, book, 3))
+            for place in range(program.places):
+                # Each is asked for twice: what has been worked out once is kept with the program.
+                for _ in range(2):
+                    self.check_book(standing(program, place), book)
+                    self.check_book(left(program), book)
+                    self.check_book(endings(program, place), book)
+                    self.check_book(endings(program, place, goal), book)
+
+    def test_the_operands_keep_their_own_books(self):
+        for draw, program in self.drawn(1005):
+            book = program.book
+            again = Book.of(book.entries, book.rules)
+            self.assertIsNot(again, book)
+            other = drawn_program(draw, again)
+            self.check_operands((program, other), [
+                lambda: program + other, lambda: program | other, lambda: program & other, program.again,
+                lambda: other + program, lambda: other | program, lambda: other & program, other.again])
+            one = LogSet.machine(book, *drawn_machine(draw, book, 3))
+            more = LogSet.machine(again, *drawn_machine(draw, again, 3))
+            self.check_operands((one, more), [
+                lambda: one & more, lambda: one | more, lambda: one - more, lambda: ~one,
+                lambda: more & one, lambda: more | one, lambda: more - one, lambda: ~more])
+
+    def check_operands(self, operands, acts):
+        """Checks that what is made has a book that was given, and that nothing of the operands is changed by it."""
+        before = [dict(vars(each)) for each in operands]
+        copies = copy.deepcopy(before)
+        for act in acts:
+            made = act()
+            self.assertTrue(any(made.book is each.book for each in operands))
+            self.assertFalse(any(made is each for each in operands))
+            for each, held in zip(operands, before):
+                self.assertEqual(list(vars(each)), list(held))
+                for name, value in vars(each).items():
+                    self.assertIs(value, held[name], name)
+            self.assertEqual([vars(each) for each in operands], copies)
 
     def test_an_equal_book_is_not_the_same_one(self):
         one, other = Book(("a",)), Book(("a",))

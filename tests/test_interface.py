@@ -82,9 +82,14 @@ DEFAULTS = {
 }
 PROPERTIES = {
     "books.Book": ["entries", "rules", "text"], "programs.Program": ["steps", "text"],
-    "logsets.LogSet": ["book", "table"], "settled.Forwarder": ["sent", "kept"], "meanings.Meaning": ["fits"],
+    "logsets.LogSet": ["table"], "settled.Forwarder": ["sent", "kept"], "meanings.Meaning": ["fits"],
 }
-ATTRIBUTES = {"programs.Program": ["book", "places", "starts", "ends"], "settled.Forwarder": ["place", "log"]}
+# The book of a set of logs is an attribute, too: programs have one of this name, and L5 and L28 let no class have a
+# property of a name that is assigned.
+ATTRIBUTES = {
+    "programs.Program": ["book", "places", "starts", "ends"], "logsets.LogSet": ["book"],
+    "settled.Forwarder": ["place", "log"],
+}
 
 
 def found(name):
@@ -141,7 +146,8 @@ class Names(unittest.TestCase):
                 self.assertIsInstance(vars(found(name)[1])[word], property, (name, word))
 
     def test_attributes(self):
-        made = {"programs.Program": UPDOWN, "settled.Forwarder": Forwarder(UPDOWN)}
+        made = {
+            "programs.Program": UPDOWN, "logsets.LogSet": LogSet.every(PILE), "settled.Forwarder": Forwarder(UPDOWN)}
         for name, words in ATTRIBUTES.items():
             for word in words:
                 self.assertIn(word, vars(made[name]))

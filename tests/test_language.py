@@ -1,4 +1,4 @@
-"""The rules of the language that a small script can count (L1, L2, L5, L7, L8, L10, L14 to L19, L23, L25 to L27)."""
+"""The rules of the language that a small script can count (L1, L2, L5, L7, L8, L10, L14 to L19, L23, L25 to L28)."""
 
 import ast
 import builtins
@@ -35,6 +35,80 @@ def nodes(kinds):
         for node in ast.walk(ast.parse(text)):
             if isinstance(node, kinds):
                 yield f"{path.name}:{getattr(node, 'lineno', 0)}", node
+
+
+def methods_of(kind):
+    """The methods of a class, its properties among them."""
+    return [node for node in kind.body if isinstance(node, ast.FunctionDef)]
+
+
+def marked_names(kind, word):
+    """The names of the methods of a class with a mark whose last word is this."""
+    return {
+        node.name for node in methods_of(kind)
+        if word in [ast.unparse(mark).split(".")[-1] for mark in node.decorator_list]}
+
+
+def property_names(kind):
+    """The names of the properties of a class."""
+    return marked_names(kind, "property")
+
+
+def setter_names(kind):
+    """The names of the properties of a class that have a setter."""
+    return marked_names(kind, "setter")
+
+
+def is_assigned(node):
+    """Whether a node of a tree is an attribute that is assigned or deleted."""
+    return isinstance(node, ast.Attribute) and isinstance(node.ctx, (ast.Store, ast.Del))
+
+
+def is_about_a_property(node):
+    """Whether a method is a property or its setter: it runs without being called."""
+    return any(ast.unparse(mark).split(".")[-1] in ("property", "setter") for mark in node.decorator_list)
+
+
+def changes_nothing(node):
+    """Whether a method is one of those that L5 and L28 let change nothing: operators, properties, and their like."""
+    is_signed = node.name.startswith("__") and node.name not in ("__init__", "__iadd__")
+    return is_signed or any(ast.unparse(mark) == "property" for mark in node.decorator_list)
+
+
+def run_in(node, functions, methods, creators):
+    """The functions and methods that a function runs, as far as the names that stand in it can tell."""
+    found = []
+    for part in ast.walk(node):
+        if isinstance(part, ast.Call) and isinstance(part.func, ast.Name):
+            name = part.func.id
+            found += [other for other in functions if other.name == name] + creators.get(name, [])
+        if isinstance(part, ast.Call) and isinstance(part.func, ast.Attribute):
+            found += [other for other in methods if other.name == part.func.attr]
+        if isinstance(part, ast.Attribute):
+            found += [other for other in methods if other.name == part.attr and is_about_a_property(other)]
+    return found
+
+
+def run_by_operators(trees):
+    """The functions and methods that operators and properties run, by their names, and these themselves."""
+    functions = [node for tree in trees for node in tree.body if isinstance(node, ast.FunctionDef)]
+    kinds = [node for tree in trees for node in tree.body if isinstance(node, ast.ClassDef)]
+    methods = [node for kind in kinds for node in methods_of(kind)]
+    creators = {kind.name: [node for node in methods_of(kind) if node.name == "__init__"] for kind in kinds}
+    # In a class method, "cls" stands for any class that can be meant.
+    creators["cls"] = [node for node in methods if node.name == "__init__"]
+    run = [node for node in methods if changes_nothing(node)]
+    for node in run:
+        for other in run_in(node, functions, methods, creators):
+            if other not in run:
+                run.append(other)
+    return run
+
+
+def assignments_in(node):
+    """The assignments of attributes in a function, but for those of an object that its __init__ creates."""
+    found = [ast.unparse(part) for part in ast.walk(node) if is_assigned(part)]
+    return [f"{node.name}: {name}" for name in found if node.name != "__init__" or not name.startswith("self.")]
 
 
 class Files(unittest.TestCase):
@@ -147,14 +221,14 @@ class Language(unittest.TestCase):
                     self.assertEqual(node.keywords, [], place)
 
     def test_methods_and_attributes_have_their_own_names(self):
-        # L18: no name is a method and an attribute; the book of a set of logs, a property with a setter, is one (L5).
+        # L18: no name is a method, or a property, and an attribute.
         marks = [node for _, kind in nodes(ast.ClassDef) for node in kind.body if isinstance(node, ast.FunctionDef)]
         stored = {node.attr for _, node in nodes(ast.Attribute) if isinstance(node.ctx, ast.Store)}
-        self.assertEqual({node.name for node in marks} & stored, {"book"})
+        self.assertEqual({node.name for node in marks} & stored, set())
         # L18: an attribute that is read is assigned by some class.
         read = {node.attr for _, node in nodes(ast.Attribute) if isinstance(node.ctx, ast.Load)}
         own = {node.name for node in marks}
-        self.assertLessEqual(read - own - set(PLAIN_METHODS), stored | {"setter"})
+        self.assertLessEqual(read - own - set(PLAIN_METHODS), stored)
 
     def test_what_is_iterated_at_once_is_not_kept(self):
         # L23: zip, enumerate, reversed, range and views are not assigned, and generators are not, either.
@@ -187,21 +261,60 @@ class Language(unittest.TestCase):
                     self.assertIn(inner.name, METHODS, place)
         for place, node in nodes(ast.FunctionDef):
             for mark in node.decorator_list:
-                if isinstance(mark, ast.Attribute):
-                    self.assertEqual((mark.value.id, mark.attr), (node.name, "setter"), place)
-                else:
-                    self.assertIn(mark.id, ("property", "classmethod", "staticmethod"), place)
+                self.assertIn(mark.id, ("property", "classmethod", "staticmethod"), place)
 
-    def test_a_property_that_is_assigned_has_its_setter(self):
-        # L5: a name is assigned only if every class that has a property of that name has its setter.
-        assigned = {
-            node.attr for _, node in nodes(ast.Attribute) if isinstance(node.ctx, (ast.Store, ast.Del))}
+    def test_no_property_is_assigned(self):
+        # L5 wants a setter in each class with a property of a name that is assigned; by L28 no operator may run one.
+        assigned = {node.attr for _, node in nodes(ast.Attribute) if is_assigned(node)}
         self.assertIn("book", assigned)
-        for place, kind in nodes(ast.ClassDef):
-            methods = [node for node in kind.body if isinstance(node, ast.FunctionDef)]
-            marks = {(node.name, ast.unparse(mark)) for node in methods for mark in node.decorator_list}
-            for name in [name for name, mark in marks if mark == "property" and name in assigned]:
-                self.assertIn((name, name + ".setter"), marks, place)
+        own = {name for _, kind in nodes(ast.ClassDef) for name in property_names(kind)}
+        self.assertIn("table", own)
+        self.assertEqual(assigned & own, set())
+        self.assertEqual([place for place, kind in nodes(ast.ClassDef) if setter_names(kind)], [])
+
+    def test_the_book_is_set_once_when_an_object_is_created(self):
+        creations = [
+            node for _, kind in nodes(ast.ClassDef) for part in kind.body
+            if isinstance(part, ast.FunctionDef) and part.name == "__init__"
+            for node in ast.walk(part) if is_assigned(node) and node.attr == "book"]
+        self.assertEqual([ast.unparse(node) for node in creations], ["self.book", "self.book"])
+        everywhere = [node for _, node in nodes(ast.Attribute) if is_assigned(node) and node.attr == "book"]
+        self.assertEqual(len(everywhere), len(creations))
+
+    def test_what_operators_run_assigns_nothing(self):
+        # L5, L28: what operators and properties run, by its names, assigns attributes of objects it creates alone.
+        trees = [ast.parse(text) for _, text in files()]
+        run = run_by_operators(trees)
+        names = [node.name for node in run]
+        for name in ("__add__", "__or__", "__and__", "__init__", "check_steps", "table_of", "is_entry", "text"):
+            self.assertIn(name, names)
+        self.assertEqual([flaw for node in run for flaw in assignments_in(node)], [])
+
+    def test_an_assigned_property_is_found(self):
+        source = """
+class Box:
+    def __init__(self, rows):
+        self.rows = rows
+    def __add__(self, other):
+        return made(self)
+class Shelf:
+    @property
+    def rows(self):
+        return self._rows
+    @rows.setter
+    def rows(self, value):
+        self._rows = value
+def made(box):
+    return Box(box.rows)
+"""
+        tree = ast.parse(source)
+        box, shelf, _ = tree.body
+        self.assertEqual((property_names(box), property_names(shelf), setter_names(shelf)), (set(), {"rows"}, {"rows"}))
+        found = [flaw for node in run_by_operators([tree]) for flaw in assignments_in(node)]
+        self.assertEqual(found, ["rows: self._rows"])
+        for old in ("def __add__", "made(self)"):
+            tree = ast.parse(source.replace(old, old.replace("__add__", "plus").replace("made", "print")))
+            self.assertEqual([flaw for node in run_by_operators([tree]) for flaw in assignments_in(node)], [])
 
     def test_builtins(self):
         for path, text in files():
